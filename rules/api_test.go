@@ -8,7 +8,7 @@ import (
 	"lapwing/api"
 )
 
-// DOC.md, Words: the errors' numbers, and their texts. (Numbers below 0 aren't held: package api, which is given, doesn't tell them as 0 as the document asks.)
+// DOC.md, Words: the errors' numbers, and their texts. A number below 0 is told as 0.
 func TestErrors(t *testing.T) {
 	for name, x := range map[string]struct {
 		e    api.Errno
@@ -27,7 +27,9 @@ func TestErrors(t *testing.T) {
 		}
 	}
 	for n, want := range map[api.Errno]string{
-		7: "error 7", 100: "error 100", math.MaxInt: "error " + strconv.Itoa(math.MaxInt),
+		7: "error 7", 9: "error 9", 100: "error 100", math.MaxInt: "error " + strconv.Itoa(math.MaxInt),
+		-1: "error 0", -9: "error 0", -10: "error 0", -11: "error 0", -62: "error 0", -100: "error 0",
+		math.MinInt32: "error 0", -math.MaxInt: "error 0", math.MinInt: "error 0",
 	} {
 		if got := n.Error(); got != want {
 			t.Errorf("error of %d: %q, want %q", int(n), got, want)

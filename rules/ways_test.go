@@ -1,0 +1,136 @@
+package rules
+
+import (
+	"go/ast"
+	"go/parser"
+	"go/token"
+	"go/types"
+	"path/filepath"
+	"strings"
+	"testing"
+)
+
+// ways is DOC.md's section 'Ways', layer by layer: which function must be built in which way.
+var ways = []struct {
+	layer, function string
+	built           func(*types.Info, *ast.FuncDecl) bool
+	way             string
+}{
+	{"bits", "Of", bitsByRange, "an octet's bits by a range over an integer, shifted"},
+	{"bits", "Octets", bitsByRange, "an octet's bits by a range over an integer, shifted"},
+	{"bits", "Flip", variadic, "places through a variadic function"},
+	{"bits", "Pack", variadic, "fields through a variadic function"},
+	{"fcs", "Step", bitsByRange, "a byte's bits by a range over an integer"},
+}
+
+// DOC.md, Ways.
+func TestWays(t *testing.T) {
+	m := module{fset: token.NewFileSet(), packages: map[string]*types.Package{}, functions: map[string]*ast.FuncDecl{}}
+	m.info.Types = map[ast.Expr]types.TypeAndValue{}
+	for _, w := range ways {
+		if _, err := m.Import("lapwing/" + w.layer); err != nil {
+			t.Fatal(err)
+		}
+		f := m.functions["lapwing/"+w.layer+"."+w.function]
+		if f == nil || !w.built(&m.info, f) {
+			t.Errorf("%s.%s isn't built as the document asks: %s", w.layer, w.function, w.way)
+		}
+	}
+}
+
+// module reads the module's packages, with their types.
+type module struct {
+	fset      *token.FileSet
+	info      types.Info
+	packages  map[string]*types.Package
+	functions map[string]*ast.FuncDecl // by package and name
+}
+
+// Import reads a package of the module. One of the library is left empty: no way hangs on what is in there.
+func (m *module) Import(path string) (*types.Package, error) {
+	if p := m.packages[path]; p != nil {
+		return p, nil
+	}
+	folder, own := strings.CutPrefix(path, "lapwing/")
+	if !own {
+		p := types.NewPackage(path, filepath.Base(path))
+		p.MarkComplete()
+		return p, nil
+	}
+	files, err := m.parse(filepath.Join("..", folder))
+	if err != nil {
+		return nil, err
+	}
+	for _, file := range files {
+		for _, d := range file.Decls {
+			if f, ok := d.(*ast.FuncDecl); ok && f.Recv == nil {
+				m.functions[path+"."+f.Name.Name] = f
+			}
+		}
+	}
+	ignore := func(error) {} // what the library's packages lack here
+	config := types.Config{Importer: m, Error: ignore}
+	m.packages[path], _ = config.Check(path, m.fset, files, &m.info)
+	return m.packages[path], nil
+}
+
+func (m *module) parse(folder string) ([]*ast.File, error) {
+	names, err := filepath.Glob(filepath.Join(folder, "*.go"))
+	if err != nil {
+		return nil, err
+	}
+	var files []*ast.File
+	for _, name := range names {
+		if strings.HasSuffix(name, "_test.go") {
+			continue
+		}
+		file, err := parser.ParseFile(m.fset, name, nil, 0)
+		if err != nil {
+			return nil, err
+		}
+		files = append(files, file)
+	}
+	return files, nil
+}
+
+// variadic: does it take any number of arguments?
+func variadic(_ *types.Info, f *ast.FuncDecl) bool {
+	params := f.Type.Params.List
+	if len(params) == 0 {
+		return false
+	}
+	_, ok := params[len(params)-1].Type.(*ast.Ellipsis)
+	return ok
+}
+
+// bitsByRange: has it a range over the integer 8, with a shift inside?
+func bitsByRange(info *types.Info, f *ast.FuncDecl) bool {
+	return has(f.Body, func(n ast.Node) bool {
+		r, ok := n.(*ast.RangeStmt)
+		if !ok {
+			return false
+		}
+		value := info.Types[r.X].Value
+		return value != nil && value.ExactString() == "8" && has(r.Body, isShift)
+	})
+}
+
+func isShift(n ast.Node) bool {
+	switch x := n.(type) {
+	case *ast.BinaryExpr:
+		return x.Op == token.SHL || x.Op == token.SHR
+	case *ast.AssignStmt:
+		return x.Tok == token.SHL_ASSIGN || x.Tok == token.SHR_ASSIGN
+	}
+	return false
+}
+
+// has: is there such a node in what lies below?
+func has(below ast.Node, such func(ast.Node) bool) bool {
+	found := false
+	ast.Inspect(below, func(n ast.Node) bool {
+		found = found || such(n)
+		return !found
+	})
+	return found
+}
