@@ -6,44 +6,48 @@ import (
 	"go/token"
 	"go/types"
 	"path/filepath"
+	"slices"
 	"strings"
 	"testing"
 )
 
-// ways is DOC.md's section 'Ways', layer by layer: which function must be built in which way.
+// ways is DOC.md's section 'Ways', layer by layer: what is declared by which name must be built in which way.
 var ways = []struct {
-	layer, function string
-	built           func(*types.Info, *ast.FuncDecl) bool
-	way             string
+	layer, name string
+	built       func(*types.Info, ast.Decl) bool
+	way         string
 }{
 	{"bits", "Of", bitsByRange, "an octet's bits by a range over an integer, shifted"},
 	{"bits", "Octets", bitsByRange, "an octet's bits by a range over an integer, shifted"},
 	{"bits", "Flip", variadic, "places through a variadic function"},
 	{"bits", "Pack", variadic, "fields through a variadic function"},
 	{"fcs", "Step", bitsByRange, "a byte's bits by a range over an integer"},
+	{"hdlc", "Frame", byIota, "kinds numbered by iota"},
+	{"hdlc", "Abort", byIota, "kinds numbered by iota"},
+	{"hdlc", "Bad", byIota, "kinds numbered by iota"},
 }
 
 // DOC.md, Ways.
 func TestWays(t *testing.T) {
-	m := module{fset: token.NewFileSet(), packages: map[string]*types.Package{}, functions: map[string]*ast.FuncDecl{}}
+	m := module{fset: token.NewFileSet(), packages: map[string]*types.Package{}, declared: map[string]ast.Decl{}}
 	m.info.Types = map[ast.Expr]types.TypeAndValue{}
 	for _, w := range ways {
 		if _, err := m.Import("lapwing/" + w.layer); err != nil {
 			t.Fatal(err)
 		}
-		f := m.functions["lapwing/"+w.layer+"."+w.function]
-		if f == nil || !w.built(&m.info, f) {
-			t.Errorf("%s.%s isn't built as the document asks: %s", w.layer, w.function, w.way)
+		d := m.declared["lapwing/"+w.layer+"."+w.name]
+		if d == nil || !w.built(&m.info, d) {
+			t.Errorf("%s.%s isn't built as the document asks: %s", w.layer, w.name, w.way)
 		}
 	}
 }
 
 // module reads the module's packages, with their types.
 type module struct {
-	fset      *token.FileSet
-	info      types.Info
-	packages  map[string]*types.Package
-	functions map[string]*ast.FuncDecl // by package and name
+	fset     *token.FileSet
+	info     types.Info
+	packages map[string]*types.Package
+	declared map[string]ast.Decl // functions and groups of constants, by package and name
 }
 
 // Import reads a package of the module. One of the library is left empty: no way hangs on what is in there.
@@ -63,8 +67,8 @@ func (m *module) Import(path string) (*types.Package, error) {
 	}
 	for _, file := range files {
 		for _, d := range file.Decls {
-			if f, ok := d.(*ast.FuncDecl); ok && f.Recv == nil {
-				m.functions[path+"."+f.Name.Name] = f
+			for _, name := range names(d) {
+				m.declared[path+"."+name] = d
 			}
 		}
 	}
@@ -93,19 +97,68 @@ func (m *module) parse(folder string) ([]*ast.File, error) {
 	return files, nil
 }
 
+// names: what is declared there, but for methods, types and variables.
+func names(d ast.Decl) []string {
+	switch x := d.(type) {
+	case *ast.FuncDecl:
+		if x.Recv == nil {
+			return []string{x.Name.Name}
+		}
+	case *ast.GenDecl:
+		if x.Tok == token.CONST {
+			return constants(x)
+		}
+	}
+	return nil
+}
+
+func constants(group *ast.GenDecl) []string {
+	var out []string
+	for _, s := range group.Specs {
+		for _, n := range s.(*ast.ValueSpec).Names {
+			out = append(out, n.Name)
+		}
+	}
+	return out
+}
+
 // variadic: does it take any number of arguments?
-func variadic(_ *types.Info, f *ast.FuncDecl) bool {
-	params := f.Type.Params.List
-	if len(params) == 0 {
+func variadic(_ *types.Info, d ast.Decl) bool {
+	f, ok := d.(*ast.FuncDecl)
+	if !ok || len(f.Type.Params.List) == 0 {
 		return false
 	}
-	_, ok := params[len(params)-1].Type.(*ast.Ellipsis)
+	params := f.Type.Params.List
+	_, ok = params[len(params)-1].Type.(*ast.Ellipsis)
 	return ok
 }
 
+// byIota: is each constant of the group told by iota, on its own line or by repeating the line above?
+func byIota(_ *types.Info, d ast.Decl) bool {
+	group, ok := d.(*ast.GenDecl)
+	if !ok || group.Tok != token.CONST {
+		return false
+	}
+	told := false
+	for _, s := range group.Specs {
+		if values := s.(*ast.ValueSpec).Values; len(values) > 0 {
+			told = slices.ContainsFunc(values, func(v ast.Expr) bool { return has(v, isIota) })
+		}
+		if !told {
+			return false
+		}
+	}
+	return true
+}
+
+func isIota(n ast.Node) bool {
+	name, ok := n.(*ast.Ident)
+	return ok && name.Name == "iota"
+}
+
 // bitsByRange: has it a range over the integer 8, with a shift inside?
-func bitsByRange(info *types.Info, f *ast.FuncDecl) bool {
-	return has(f.Body, func(n ast.Node) bool {
+func bitsByRange(info *types.Info, d ast.Decl) bool {
+	return has(d, func(n ast.Node) bool {
 		r, ok := n.(*ast.RangeStmt)
 		if !ok {
 			return false
