@@ -25,6 +25,10 @@ var ways = []struct {
 	{"hdlc", "Frame", byIota, "kinds numbered by iota"},
 	{"hdlc", "Abort", byIota, "kinds numbered by iota"},
 	{"hdlc", "Bad", byIota, "kinds numbered by iota"},
+	{"addr", "None", byIota, "kinds numbered by iota"},
+	{"addr", "Fixed", byIota, "kinds numbered by iota"},
+	{"addr", "Automatic", byIota, "kinds numbered by iota"},
+	{"addr", "Group", byIota, "kinds numbered by iota"},
 }
 
 // DOC.md, Ways.
