@@ -29,6 +29,24 @@ var ways = []struct {
 	{"addr", "Fixed", byIota, "kinds numbered by iota"},
 	{"addr", "Automatic", byIota, "kinds numbered by iota"},
 	{"addr", "Group", byIota, "kinds numbered by iota"},
+	{"ctrl", "I", byIota, "kinds numbered by iota"},
+	{"ctrl", "RR", byIota, "kinds numbered by iota"},
+	{"ctrl", "RNR", byIota, "kinds numbered by iota"},
+	{"ctrl", "REJ", byIota, "kinds numbered by iota"},
+	{"ctrl", "SABME", byIota, "kinds numbered by iota"},
+	{"ctrl", "DM", byIota, "kinds numbered by iota"},
+	{"ctrl", "UI", byIota, "kinds numbered by iota"},
+	{"ctrl", "DISC", byIota, "kinds numbered by iota"},
+	{"ctrl", "UA", byIota, "kinds numbered by iota"},
+	{"ctrl", "FRMR", byIota, "kinds numbered by iota"},
+	{"ctrl", "Kinds", byIota, "kinds numbered by iota"},
+	{"ctrl", "firstOctets", constantTable, "first octets in constant tables"},
+	{"ctrl", "firstOctet", reads("firstOctets"), "first octets in constant tables"},
+	{"ctrl", "Put", calls("firstOctet"), "first octets in constant tables"},
+	{"ctrl", "begin", calls("firstOctet"), "first octets in constant tables"},
+	{"ctrl", "Get", calls("begin"), "first octets in constant tables"},
+	{"ctrl", "names", constantTable, "names in constant tables"},
+	{"ctrl", "Kind.Name", reads("names"), "names in constant tables"},
 }
 
 // DOC.md, Ways.
@@ -51,7 +69,7 @@ type module struct {
 	fset     *token.FileSet
 	info     types.Info
 	packages map[string]*types.Package
-	declared map[string]ast.Decl // functions and groups of constants, by package and name
+	declared map[string]ast.Decl // functions, methods, and groups of constants or variables, by package and name
 }
 
 // Import reads a package of the module. One of the library is left empty: no way hangs on what is in there.
@@ -101,22 +119,24 @@ func (m *module) parse(folder string) ([]*ast.File, error) {
 	return files, nil
 }
 
-// names: what is declared there, but for methods, types and variables.
+// names: what is declared there, but for types. A method is named with its type ahead.
 func names(d ast.Decl) []string {
 	switch x := d.(type) {
 	case *ast.FuncDecl:
 		if x.Recv == nil {
 			return []string{x.Name.Name}
 		}
+		owner := strings.TrimPrefix(types.ExprString(x.Recv.List[0].Type), "*")
+		return []string{owner + "." + x.Name.Name}
 	case *ast.GenDecl:
-		if x.Tok == token.CONST {
-			return constants(x)
+		if x.Tok == token.CONST || x.Tok == token.VAR {
+			return valueNames(x)
 		}
 	}
 	return nil
 }
 
-func constants(group *ast.GenDecl) []string {
+func valueNames(group *ast.GenDecl) []string {
 	var out []string
 	for _, s := range group.Specs {
 		for _, n := range s.(*ast.ValueSpec).Names {
@@ -158,6 +178,57 @@ func byIota(_ *types.Info, d ast.Decl) bool {
 func isIota(n ast.Node) bool {
 	name, ok := n.(*ast.Ident)
 	return ok && name.Name == "iota"
+}
+
+// constantTable: is each variable of the group a table, written out in constants?
+func constantTable(info *types.Info, d ast.Decl) bool {
+	group, ok := d.(*ast.GenDecl)
+	if !ok || group.Tok != token.VAR {
+		return false
+	}
+	for _, s := range group.Specs {
+		values := s.(*ast.ValueSpec).Values
+		if len(values) == 0 || slices.ContainsFunc(values, func(v ast.Expr) bool { return !ofConstants(info, v) }) {
+			return false
+		}
+	}
+	return true
+}
+
+func ofConstants(info *types.Info, v ast.Expr) bool {
+	table, ok := v.(*ast.CompositeLit)
+	if !ok || len(table.Elts) == 0 {
+		return false
+	}
+	for _, e := range table.Elts {
+		if pair, ok := e.(*ast.KeyValueExpr); ok {
+			e = pair.Value
+		}
+		if info.Types[e].Value == nil {
+			return false
+		}
+	}
+	return true
+}
+
+// reads: does it take an element out of the table of that name?
+func reads(table string) func(*types.Info, ast.Decl) bool {
+	return func(_ *types.Info, d ast.Decl) bool {
+		return has(d, func(n ast.Node) bool {
+			x, ok := n.(*ast.IndexExpr)
+			return ok && types.ExprString(x.X) == table
+		})
+	}
+}
+
+// calls: does it call the function of that name?
+func calls(function string) func(*types.Info, ast.Decl) bool {
+	return func(_ *types.Info, d ast.Decl) bool {
+		return has(d, func(n ast.Node) bool {
+			x, ok := n.(*ast.CallExpr)
+			return ok && types.ExprString(x.Fun) == function
+		})
+	}
 }
 
 // bitsByRange: has it a range over the integer 8, with a shift inside?
