@@ -47,6 +47,12 @@ var ways = []struct {
 	{"ctrl", "Get", calls("begin"), "first octets in constant tables"},
 	{"ctrl", "names", constantTable, "names in constant tables"},
 	{"ctrl", "Kind.Name", reads("names"), "names in constant tables"},
+	{"frame", "commandsAlone", constantArray, "kinds that are commands alone in an array"},
+	{"frame", "May", reads("commandsAlone"), "kinds that are commands alone in an array"},
+	{"frame", "responsesAlone", constantArray, "kinds that are responses alone in an array"},
+	{"frame", "May", reads("responsesAlone"), "kinds that are responses alone in an array"},
+	{"frame", "Put", calls("May"), "kinds that are commands, or responses, alone in arrays"},
+	{"frame", "Get", calls("May"), "kinds that are commands, or responses, alone in arrays"},
 }
 
 // DOC.md, Ways.
@@ -193,6 +199,19 @@ func constantTable(info *types.Info, d ast.Decl) bool {
 		}
 	}
 	return true
+}
+
+// constantArray: is each variable of the group such a table, and an array?
+func constantArray(info *types.Info, d ast.Decl) bool {
+	return constantTable(info, d) && !has(d, func(n ast.Node) bool {
+		table, ok := n.(*ast.CompositeLit)
+		return ok && !isArray(info.Types[table].Type)
+	})
+}
+
+func isArray(t types.Type) bool {
+	_, ok := t.Underlying().(*types.Array)
+	return ok
 }
 
 func ofConstants(info *types.Info, v ast.Expr) bool {
