@@ -53,6 +53,14 @@ var ways = []struct {
 	{"frame", "May", reads("responsesAlone"), "kinds that are responses alone in an array"},
 	{"frame", "Put", calls("May"), "kinds that are commands, or responses, alone in arrays"},
 	{"frame", "Get", calls("May"), "kinds that are commands, or responses, alone in arrays"},
+	{"teimsg", "Request", byIota, "types numbered by iota"},
+	{"teimsg", "Assigned", byIota, "types numbered by iota"},
+	{"teimsg", "Denied", byIota, "types numbered by iota"},
+	{"teimsg", "CheckRequest", byIota, "types numbered by iota"},
+	{"teimsg", "CheckResponse", byIota, "types numbered by iota"},
+	{"teimsg", "Remove", byIota, "types numbered by iota"},
+	{"teimsg", "Verify", byIota, "types numbered by iota"},
+	{"teimsg", "Of", compares("lapwing/addr.Link"), "a frame's link compared as a struct"},
 }
 
 // DOC.md, Ways.
@@ -248,6 +256,25 @@ func calls(function string) func(*types.Info, ast.Decl) bool {
 			return ok && types.ExprString(x.Fun) == function
 		})
 	}
+}
+
+// compares: does it hold two structs of the type of that name against each other, whole?
+func compares(name string) func(*types.Info, ast.Decl) bool {
+	return func(info *types.Info, d ast.Decl) bool {
+		such := func(e ast.Expr) bool {
+			t := info.Types[e].Type
+			return t != nil && t.String() == name && isStruct(t)
+		}
+		return has(d, func(n ast.Node) bool {
+			x, ok := n.(*ast.BinaryExpr)
+			return ok && (x.Op == token.EQL || x.Op == token.NEQ) && such(x.X) && such(x.Y)
+		})
+	}
+}
+
+func isStruct(t types.Type) bool {
+	_, ok := t.Underlying().(*types.Struct)
+	return ok
 }
 
 // bitsByRange: has it a range over the integer 8, with a shift inside?
