@@ -61,6 +61,12 @@ var ways = []struct {
 	{"teimsg", "Remove", byIota, "types numbered by iota"},
 	{"teimsg", "Verify", byIota, "types numbered by iota"},
 	{"teimsg", "Of", compares("lapwing/addr.Link"), "a frame's link compared as a struct"},
+	{"seq", "modulo", generic, "a number modulo 128 told by a generic function"},
+	{"seq", "Norm", calls("modulo"), "a number modulo 128 told by a generic function"},
+	{"seq", "Add", calls("modulo"), "a number modulo 128 told by a generic function"},
+	{"seq", "Sub", calls("modulo"), "a number modulo 128 told by a generic function"},
+	{"seq", "Valid", calls("Sub"), "a number modulo 128 told by a generic function"},
+	{"seq", "Room", calls("Sub"), "a number modulo 128 told by a generic function"},
 }
 
 // DOC.md, Ways.
@@ -169,6 +175,26 @@ func variadic(_ *types.Info, d ast.Decl) bool {
 	params := f.Type.Params.List
 	_, ok = params[len(params)-1].Type.(*ast.Ellipsis)
 	return ok
+}
+
+// generic: does it take, and answer, what is of a type parameter of its own?
+func generic(_ *types.Info, d ast.Decl) bool {
+	f, ok := d.(*ast.FuncDecl)
+	if !ok || f.Type.TypeParams == nil || f.Type.Results == nil {
+		return false
+	}
+	for _, p := range f.Type.TypeParams.List {
+		for _, name := range p.Names {
+			if anyOfType(f.Type.Params, name.Name) && anyOfType(f.Type.Results, name.Name) {
+				return true
+			}
+		}
+	}
+	return false
+}
+
+func anyOfType(fields *ast.FieldList, name string) bool {
+	return slices.ContainsFunc(fields.List, func(f *ast.Field) bool { return types.ExprString(f.Type) == name })
 }
 
 // byIota: is each constant of the group told by iota, on its own line or by repeating the line above?
