@@ -67,6 +67,14 @@ var ways = []struct {
 	{"seq", "Sub", calls("modulo"), "a number modulo 128 told by a generic function"},
 	{"seq", "Valid", calls("Sub"), "a number modulo 128 told by a generic function"},
 	{"seq", "Room", calls("Sub"), "a number modulo 128 told by a generic function"},
+	{"clock", "Clock.Start", storesByKey("lapwing/clock.Key"), "timers in a map whose keys are structs"},
+	{"clock", "Clock.Runs", looksUpByKey("lapwing/clock.Key"), "timers in a map whose keys are structs"},
+	{"clock", "Clock.Next", rangesOverKeys("lapwing/clock.Key"), "the map of timers ranged over"},
+	{"clock", "Clock.Due", rangesOverKeys("lapwing/clock.Key"), "the map of timers ranged over"},
+	{"clock", "Clock.Due", deletesByKey("lapwing/clock.Key"), "timers deleted out of the map"},
+	{"clock", "Clock.Drop", rangesOverKeys("lapwing/clock.Key"), "the map of timers ranged over"},
+	{"clock", "Clock.Drop", deletesByKey("lapwing/clock.Key"), "timers deleted out of the map"},
+	{"clock", "Clock.Stop", deletesByKey("lapwing/clock.Key"), "timers deleted out of the map"},
 }
 
 // DOC.md, Ways.
@@ -282,6 +290,62 @@ func calls(function string) func(*types.Info, ast.Decl) bool {
 			return ok && types.ExprString(x.Fun) == function
 		})
 	}
+}
+
+// storesByKey: does it store into a kept map whose keys are structs of the type of that name?
+func storesByKey(name string) func(*types.Info, ast.Decl) bool {
+	return func(info *types.Info, d ast.Decl) bool {
+		return has(d, func(n ast.Node) bool {
+			x, ok := n.(*ast.AssignStmt)
+			return ok && slices.ContainsFunc(x.Lhs, func(e ast.Expr) bool { return isElement(info, e, name) })
+		})
+	}
+}
+
+// looksUpByKey: does it take an element out of such a map?
+func looksUpByKey(name string) func(*types.Info, ast.Decl) bool {
+	return func(info *types.Info, d ast.Decl) bool {
+		return has(d, func(n ast.Node) bool {
+			x, ok := n.(*ast.AssignStmt)
+			return ok && slices.ContainsFunc(x.Rhs, func(e ast.Expr) bool { return isElement(info, e, name) })
+		})
+	}
+}
+
+// rangesOverKeys: does it range over such a map?
+func rangesOverKeys(name string) func(*types.Info, ast.Decl) bool {
+	return func(info *types.Info, d ast.Decl) bool {
+		return has(d, func(n ast.Node) bool {
+			x, ok := n.(*ast.RangeStmt)
+			return ok && isKeptMap(info, x.X, name)
+		})
+	}
+}
+
+// deletesByKey: does it delete out of such a map?
+func deletesByKey(name string) func(*types.Info, ast.Decl) bool {
+	return func(info *types.Info, d ast.Decl) bool {
+		return has(d, func(n ast.Node) bool {
+			x, ok := n.(*ast.CallExpr)
+			return ok && types.ExprString(x.Fun) == "delete" && isKeptMap(info, x.Args[0], name)
+		})
+	}
+}
+
+func isElement(info *types.Info, e ast.Expr, name string) bool {
+	x, ok := e.(*ast.IndexExpr)
+	return ok && isKeptMap(info, x.X, name)
+}
+
+// isKeptMap: is it a field, and a map whose keys are structs of the type of that name?
+func isKeptMap(info *types.Info, e ast.Expr, name string) bool {
+	_, field := e.(*ast.SelectorExpr)
+	t := info.Types[e].Type
+	if !field || t == nil {
+		return false
+	}
+	m, ok := t.Underlying().(*types.Map)
+	return ok && m.Key().String() == name && isStruct(m.Key())
 }
 
 // compares: does it hold two structs of the type of that name against each other, whole?
