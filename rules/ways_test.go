@@ -75,6 +75,8 @@ var ways = []struct {
 	{"clock", "Clock.Drop", rangesOverKeys("lapwing/clock.Key"), "the map of timers ranged over"},
 	{"clock", "Clock.Drop", deletesByKey("lapwing/clock.Key"), "timers deleted out of the map"},
 	{"clock", "Clock.Stop", deletesByKey("lapwing/clock.Key"), "timers deleted out of the map"},
+	{"queue", "Queue.List", copies, "what is told is copied"},
+	{"queue", "Queue.Done", cutsOff, "what is left behind what is done cut off by a three-index expression"},
 }
 
 // DOC.md, Ways.
@@ -346,6 +348,43 @@ func isKeptMap(info *types.Info, e ast.Expr, name string) bool {
 	}
 	m, ok := t.Underlying().(*types.Map)
 	return ok && m.Key().String() == name && isStruct(m.Key())
+}
+
+// copies: does it copy a kept list?
+func copies(info *types.Info, d ast.Decl) bool {
+	return has(d, func(n ast.Node) bool {
+		x, ok := n.(*ast.CallExpr)
+		if !ok || len(x.Args) == 0 {
+			return false
+		}
+		name, last := types.ExprString(x.Fun), x.Args[len(x.Args)-1]
+		return (name == "copy" || name == "slices.Clone") && isKeptList(info, last)
+	})
+}
+
+// cutsOff: does it keep, of a kept list, what a three-index expression leaves of it?
+func cutsOff(info *types.Info, d ast.Decl) bool {
+	return has(d, func(n ast.Node) bool {
+		x, ok := n.(*ast.AssignStmt)
+		return ok && slices.ContainsFunc(x.Lhs, func(e ast.Expr) bool { return isKeptList(info, e) }) &&
+			slices.ContainsFunc(x.Rhs, func(e ast.Expr) bool { return isThreeIndex(info, e) })
+	})
+}
+
+func isThreeIndex(info *types.Info, e ast.Expr) bool {
+	x, ok := e.(*ast.SliceExpr)
+	return ok && x.Slice3 && isKeptList(info, x.X)
+}
+
+// isKeptList: is it a field, and a list?
+func isKeptList(info *types.Info, e ast.Expr) bool {
+	_, field := e.(*ast.SelectorExpr)
+	t := info.Types[e].Type
+	if !field || t == nil {
+		return false
+	}
+	_, list := t.Underlying().(*types.Slice)
+	return list
 }
 
 // compares: does it hold two structs of the type of that name against each other, whole?
