@@ -77,6 +77,8 @@ var ways = []struct {
 	{"clock", "Clock.Stop", deletesByKey("lapwing/clock.Key"), "timers deleted out of the map"},
 	{"queue", "Queue.List", copies, "what is told is copied"},
 	{"queue", "Queue.Done", cutsOff, "what is left behind what is done cut off by a three-index expression"},
+	{"draw", "New", variadic, "the first numbers through a variadic function"},
+	{"draw", "New", copiesAny, "the first numbers copied"},
 }
 
 // DOC.md, Ways.
@@ -353,13 +355,34 @@ func isKeptMap(info *types.Info, e ast.Expr, name string) bool {
 // copies: does it copy a kept list?
 func copies(info *types.Info, d ast.Decl) bool {
 	return has(d, func(n ast.Node) bool {
-		x, ok := n.(*ast.CallExpr)
-		if !ok || len(x.Args) == 0 {
-			return false
-		}
-		name, last := types.ExprString(x.Fun), x.Args[len(x.Args)-1]
-		return (name == "copy" || name == "slices.Clone") && isKeptList(info, last)
+		list := copied(n)
+		return list != nil && isKeptList(info, list)
 	})
+}
+
+// copiesAny: does it copy what it takes any number of?
+func copiesAny(info *types.Info, d ast.Decl) bool {
+	if !variadic(info, d) {
+		return false
+	}
+	params := d.(*ast.FuncDecl).Type.Params.List
+	taken := params[len(params)-1].Names[0].Name
+	return has(d, func(n ast.Node) bool {
+		list := copied(n)
+		return list != nil && types.ExprString(list) == taken
+	})
+}
+
+// copied: the list that is copied there, if one is.
+func copied(n ast.Node) ast.Expr {
+	x, ok := n.(*ast.CallExpr)
+	if !ok || len(x.Args) == 0 {
+		return nil
+	}
+	if name := types.ExprString(x.Fun); name != "copy" && name != "slices.Clone" {
+		return nil
+	}
+	return x.Args[len(x.Args)-1]
 }
 
 // cutsOff: does it keep, of a kept list, what a three-index expression leaves of it?
