@@ -79,6 +79,8 @@ var ways = []struct {
 	{"queue", "Queue.Done", cutsOff, "what is left behind what is done cut off by a three-index expression"},
 	{"draw", "New", variadic, "the first numbers through a variadic function"},
 	{"draw", "New", copiesAny, "the first numbers copied"},
+	{"pool", "Pool.Assign", teisByRange, "TEIs by a range over an integer"},
+	{"pool", "Pool.List", teisByRange, "TEIs by a range over an integer"},
 }
 
 // DOC.md, Ways.
@@ -433,11 +435,7 @@ func isStruct(t types.Type) bool {
 func bitsByRange(info *types.Info, d ast.Decl) bool {
 	return has(d, func(n ast.Node) bool {
 		r, ok := n.(*ast.RangeStmt)
-		if !ok {
-			return false
-		}
-		value := info.Types[r.X].Value
-		return value != nil && value.ExactString() == "8" && has(r.Body, isShift)
+		return ok && isInteger(info, r.X, "8") && has(r.Body, isShift)
 	})
 }
 
@@ -449,6 +447,30 @@ func isShift(n ast.Node) bool {
 		return x.Tok == token.SHL_ASSIGN || x.Tok == token.SHR_ASSIGN
 	}
 	return false
+}
+
+// teisByRange: has it a range over the integer 63, with elements of a kept array inside?
+func teisByRange(info *types.Info, d ast.Decl) bool {
+	return has(d, func(n ast.Node) bool {
+		r, ok := n.(*ast.RangeStmt)
+		return ok && isInteger(info, r.X, "63") && has(r.Body, func(n ast.Node) bool {
+			x, ok := n.(*ast.IndexExpr)
+			return ok && isKeptArray(info, x.X)
+		})
+	})
+}
+
+// isInteger: is it a constant of that number?
+func isInteger(info *types.Info, e ast.Expr, number string) bool {
+	value := info.Types[e].Value
+	return value != nil && value.ExactString() == number
+}
+
+// isKeptArray: is it a field, and an array?
+func isKeptArray(info *types.Info, e ast.Expr) bool {
+	_, field := e.(*ast.SelectorExpr)
+	t := info.Types[e].Type
+	return field && t != nil && isArray(t)
 }
 
 // has: is there such a node in what lies below?
