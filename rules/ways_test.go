@@ -81,12 +81,23 @@ var ways = []struct {
 	{"draw", "New", copiesAny, "the first numbers copied"},
 	{"pool", "Pool.Assign", teisByRange, "TEIs by a range over an integer"},
 	{"pool", "Pool.List", teisByRange, "TEIs by a range over an integer"},
+	{"flow", "Next", byIota, "what a number may be numbered by iota"},
+	{"flow", "Wrong", byIota, "what a number may be numbered by iota"},
+	{"flow", "Again", byIota, "what a number may be numbered by iota"},
+	{"flow", "Busy", byIota, "what a number may be numbered by iota"},
+	{"flow", "Flow.View", promotes("lapwing/flow.Flow", "vs", "va", "vr"), "the numbers embedded in the flow"},
+	{"flow", "Flow.Take", promotes("lapwing/flow.Flow", "vs", "va"), "the numbers embedded in the flow"},
+	{"flow", "Flow.Ack", promotes("lapwing/flow.Flow", "vs", "va"), "the numbers embedded in the flow"},
+	{"flow", "Flow.Back", promotes("lapwing/flow.Flow", "vs", "va"), "the numbers embedded in the flow"},
+	{"flow", "Flow.Come", promotes("lapwing/flow.Flow", "vr"), "the numbers embedded in the flow"},
+	{"flow", "Flow.Clear", promotes("lapwing/flow.Flow", "vs", "va"), "the numbers embedded in the flow"},
 }
 
 // DOC.md, Ways.
 func TestWays(t *testing.T) {
 	m := module{fset: token.NewFileSet(), packages: map[string]*types.Package{}, declared: map[string]ast.Decl{}}
 	m.info.Types = map[ast.Expr]types.TypeAndValue{}
+	m.info.Selections = map[*ast.SelectorExpr]*types.Selection{}
 	for _, w := range ways {
 		if _, err := m.Import("lapwing/" + w.layer); err != nil {
 			t.Fatal(err)
@@ -458,6 +469,22 @@ func teisByRange(info *types.Info, d ast.Decl) bool {
 			return ok && isKeptArray(info, x.X)
 		})
 	})
+}
+
+// promotes: does it take each of these fields of an object of the type of that name by its name alone, out of what is embedded there?
+func promotes(owner string, fields ...string) func(*types.Info, ast.Decl) bool {
+	return func(info *types.Info, d ast.Decl) bool {
+		return !slices.ContainsFunc(fields, func(field string) bool {
+			return !has(d, func(n ast.Node) bool {
+				x, ok := n.(*ast.SelectorExpr)
+				return ok && x.Sel.Name == field && isPromoted(info.Selections[x], owner)
+			})
+		})
+	}
+}
+
+func isPromoted(s *types.Selection, owner string) bool {
+	return s != nil && s.Kind() == types.FieldVal && strings.TrimPrefix(s.Recv().String(), "*") == owner && len(s.Index()) > 1
 }
 
 // isInteger: is it a constant of that number?
