@@ -91,6 +91,20 @@ var ways = []struct {
 	{"flow", "Flow.Back", promotes("lapwing/flow.Flow", "vs", "va"), "the numbers embedded in the flow"},
 	{"flow", "Flow.Come", promotes("lapwing/flow.Flow", "vr"), "the numbers embedded in the flow"},
 	{"flow", "Flow.Clear", promotes("lapwing/flow.Flow", "vs", "va"), "the numbers embedded in the flow"},
+	{"entity", "Unassigned", byIota, "states numbered by iota"},
+	{"entity", "AwaitTEI", byIota, "states numbered by iota"},
+	{"entity", "AwaitLink", byIota, "states numbered by iota"},
+	{"entity", "Assigned", byIota, "states numbered by iota"},
+	{"entity", "Connecting", byIota, "states numbered by iota"},
+	{"entity", "Releasing", byIota, "states numbered by iota"},
+	{"entity", "Open", byIota, "states numbered by iota"},
+	{"entity", "Recovery", byIota, "states numbered by iota"},
+	{"entity", "Entity.establish", fallsThrough("Open", "Assigned"), "a call from a state with a link falling through to one from a state without"},
+	{"entity", "Entity.establish", fallsThrough("Recovery", "Assigned"), "a call from a state with a link falling through to one from a state without"},
+	{"entity", "Entity.start", storesByKey("int"), "timers in a map"},
+	{"entity", "Entity.runs", looksUpByKey("int"), "timers in a map"},
+	{"entity", "Entity.stop", deletesByKey("int"), "timers in a map"},
+	{"entity", "Entity.Timeout", deletesByKey("int"), "timers in a map"},
 }
 
 // DOC.md, Ways.
@@ -309,7 +323,7 @@ func calls(function string) func(*types.Info, ast.Decl) bool {
 	}
 }
 
-// storesByKey: does it store into a kept map whose keys are structs of the type of that name?
+// storesByKey: does it store into a kept map whose keys are of the type of that name, which is a struct or int?
 func storesByKey(name string) func(*types.Info, ast.Decl) bool {
 	return func(info *types.Info, d ast.Decl) bool {
 		return has(d, func(n ast.Node) bool {
@@ -354,7 +368,7 @@ func isElement(info *types.Info, e ast.Expr, name string) bool {
 	return ok && isKeptMap(info, x.X, name)
 }
 
-// isKeptMap: is it a field, and a map whose keys are structs of the type of that name?
+// isKeptMap: is it a field, and a map whose keys are of the type of that name, which is a struct or int?
 func isKeptMap(info *types.Info, e ast.Expr, name string) bool {
 	_, field := e.(*ast.SelectorExpr)
 	t := info.Types[e].Type
@@ -362,7 +376,7 @@ func isKeptMap(info *types.Info, e ast.Expr, name string) bool {
 		return false
 	}
 	m, ok := t.Underlying().(*types.Map)
-	return ok && m.Key().String() == name && isStruct(m.Key())
+	return ok && m.Key().String() == name && (name == "int" || isStruct(m.Key()))
 }
 
 // copies: does it copy a kept list?
@@ -485,6 +499,38 @@ func promotes(owner string, fields ...string) func(*types.Info, ast.Decl) bool {
 
 func isPromoted(s *types.Selection, owner string) bool {
 	return s != nil && s.Kind() == types.FieldVal && strings.TrimPrefix(s.Recv().String(), "*") == owner && len(s.Index()) > 1
+}
+
+// fallsThrough: does the case of the constant of one name fall through to that of the other?
+func fallsThrough(from, to string) func(*types.Info, ast.Decl) bool {
+	return func(_ *types.Info, d ast.Decl) bool {
+		return has(d, func(n ast.Node) bool {
+			x, ok := n.(*ast.SwitchStmt)
+			if !ok {
+				return false
+			}
+			cases := x.Body.List
+			for i := range len(cases) - 1 {
+				if isCaseOf(cases[i], from) && endsInFallthrough(cases[i]) && isCaseOf(cases[i+1], to) {
+					return true
+				}
+			}
+			return false
+		})
+	}
+}
+
+func isCaseOf(s ast.Stmt, name string) bool {
+	return slices.ContainsFunc(s.(*ast.CaseClause).List, func(e ast.Expr) bool { return types.ExprString(e) == name })
+}
+
+func endsInFallthrough(s ast.Stmt) bool {
+	body := s.(*ast.CaseClause).Body
+	if len(body) == 0 {
+		return false
+	}
+	last, ok := body[len(body)-1].(*ast.BranchStmt)
+	return ok && last.Tok == token.FALLTHROUGH
 }
 
 // isInteger: is it a constant of that number?
