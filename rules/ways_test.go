@@ -105,6 +105,17 @@ var ways = []struct {
 	{"entity", "Entity.runs", looksUpByKey("int"), "timers in a map"},
 	{"entity", "Entity.stop", deletesByKey("int"), "timers in a map"},
 	{"entity", "Entity.Timeout", deletesByKey("int"), "timers in a map"},
+	{"source", "Send", byIota, "effects numbered by iota"},
+	{"source", "Given", byIota, "effects numbered by iota"},
+	{"source", "Freed", byIota, "effects numbered by iota"},
+	{"source", "Start", byIota, "effects numbered by iota"},
+	{"source", "Stop", byIota, "effects numbered by iota"},
+	{"source", "Source.await", storesByKey("int"), "checks in a map"},
+	{"source", "Source.answer", storesByKey("int"), "checks in a map"},
+	{"source", "Source.Check", looksUpByKey("int"), "checks in a map"},
+	{"source", "Source.Timeout", looksUpByKey("int"), "checks in a map"},
+	{"source", "Source.Timeout", deletesByKey("int"), "checks in a map"},
+	{"source", "Source.remove", deletesByKey("int"), "checks in a map"},
 }
 
 // DOC.md, Ways.
