@@ -116,6 +116,15 @@ var ways = []struct {
 	{"source", "Source.Timeout", looksUpByKey("int"), "checks in a map"},
 	{"source", "Source.Timeout", deletesByKey("int"), "checks in a map"},
 	{"source", "Source.remove", deletesByKey("int"), "checks in a map"},
+	{"user", "Send", byIota, "effects numbered by iota"},
+	{"user", "Got", byIota, "effects numbered by iota"},
+	{"user", "Lost", byIota, "effects numbered by iota"},
+	{"user", "Failed", byIota, "effects numbered by iota"},
+	{"user", "Start", byIota, "effects numbered by iota"},
+	{"user", "Stop", byIota, "effects numbered by iota"},
+	{"user", "New", keepsMethod("next", "lapwing/draw.Source", "Next"), "the source's Next held as a method value, in a function field"},
+	{"user", "User.ask", callsKept("next"), "the source's Next held as a method value, in a function field"},
+	{"user", "User.Message", callsKept("next"), "the source's Next held as a method value, in a function field"},
 }
 
 // DOC.md, Ways.
@@ -510,6 +519,39 @@ func promotes(owner string, fields ...string) func(*types.Info, ast.Decl) bool {
 
 func isPromoted(s *types.Selection, owner string) bool {
 	return s != nil && s.Kind() == types.FieldVal && strings.TrimPrefix(s.Recv().String(), "*") == owner && len(s.Index()) > 1
+}
+
+// keepsMethod: does it make a struct whose function field of that name holds a method of the type of the owner's name, as a value?
+func keepsMethod(field, owner, method string) func(*types.Info, ast.Decl) bool {
+	return func(info *types.Info, d ast.Decl) bool {
+		return has(d, func(n ast.Node) bool {
+			pair, ok := n.(*ast.KeyValueExpr)
+			return ok && types.ExprString(pair.Key) == field && isMethodValue(info, pair.Value, owner, method)
+		})
+	}
+}
+
+func isMethodValue(info *types.Info, e ast.Expr, owner, method string) bool {
+	x, ok := e.(*ast.SelectorExpr)
+	if !ok || x.Sel.Name != method {
+		return false
+	}
+	s := info.Selections[x]
+	return s != nil && s.Kind() == types.MethodVal && strings.TrimPrefix(s.Recv().String(), "*") == owner
+}
+
+// callsKept: does it call what the function field of that name holds?
+func callsKept(field string) func(*types.Info, ast.Decl) bool {
+	return func(info *types.Info, d ast.Decl) bool {
+		return has(d, func(n ast.Node) bool {
+			call, ok := n.(*ast.CallExpr)
+			if !ok {
+				return false
+			}
+			x, ok := call.Fun.(*ast.SelectorExpr)
+			return ok && x.Sel.Name == field && info.Selections[x] != nil && info.Selections[x].Kind() == types.FieldVal
+		})
+	}
 }
 
 // fallsThrough: does the case of the constant of one name fall through to that of the other?
