@@ -125,6 +125,15 @@ var ways = []struct {
 	{"user", "New", keepsMethod("next", "lapwing/draw.Source", "Next"), "the source's Next held as a method value, in a function field"},
 	{"user", "User.ask", callsKept("next"), "the source's Next held as a method value, in a function field"},
 	{"user", "User.Message", callsKept("next"), "the source's Next held as a method value, in a function field"},
+	{"mux", "Mux.Join", storesByKey("lapwing/addr.Link"), "links in a map whose keys are structs"},
+	{"mux", "Mux.has", looksUpByKey("lapwing/addr.Link"), "links in a map whose keys are structs"},
+	{"mux", "Mux.Route", looksUpByKey("lapwing/addr.Link"), "links in a map whose keys are structs"},
+	{"mux", "Mux.everybody", rangesOverKeys("lapwing/addr.Link"), "the map of links ranged over"},
+	{"mux", "Mux.Links", rangesOverKeys("lapwing/addr.Link"), "the map of links ranged over"},
+	{"mux", "Mux.Drop", rangesOverKeys("lapwing/addr.Link"), "the map of links ranged over"},
+	{"mux", "Mux.Drop", deletesByKey("lapwing/addr.Link"), "links deleted out of the map"},
+	{"mux", "Mux.Leave", deletesByKey("lapwing/addr.Link"), "links deleted out of the map"},
+	{"mux", "Mux.Links", ordersByClosure, "links put in order by a closure"},
 }
 
 // DOC.md, Ways.
@@ -552,6 +561,18 @@ func callsKept(field string) func(*types.Info, ast.Decl) bool {
 			return ok && x.Sel.Name == field && info.Selections[x] != nil && info.Selections[x].Kind() == types.FieldVal
 		})
 	}
+}
+
+// ordersByClosure: does it put a list in order by a function that is written out there?
+func ordersByClosure(_ *types.Info, d ast.Decl) bool {
+	return has(d, func(n ast.Node) bool {
+		call, ok := n.(*ast.CallExpr)
+		if !ok || types.ExprString(call.Fun) != "slices.SortFunc" || len(call.Args) != 2 {
+			return false
+		}
+		_, ok = call.Args[1].(*ast.FuncLit)
+		return ok
+	})
 }
 
 // fallsThrough: does the case of the constant of one name fall through to that of the other?
